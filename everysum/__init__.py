@@ -1,0 +1,1 @@
+"""Everysum: numbers all lesser sums of which are made of unlike divisors."""
